@@ -1,0 +1,44 @@
+// Package anvil: words that get faster while they run. See DOC.md.
+package anvil
+
+import (
+	"anvil/api"
+	"anvil/machine"
+	"anvil/token"
+)
+
+// Session runs lines.
+type Session struct {
+	state machine.State
+}
+
+// New makes a session (P3).
+func New() *Session { return &Session{} }
+
+// Line runs a line (P3).
+func (s *Session) Line(text string) (string, api.Errno) {
+	if !token.Valid(text) {
+		return "", api.ErrText
+	}
+	run := s.state.Start()
+	why := runTokens(run, token.Split(text))
+	if why != api.OK {
+		s.state.Empty()
+	}
+	return run.Printed(), why
+}
+
+// Stack tells the numbers on the stack (P4).
+func (s *Session) Stack() []int { return nil }
+
+// Cell tells what is in a cell (P4).
+func (s *Session) Cell(n int) (int, api.Errno) { return 0, api.OK }
+
+// Words tells the names of all words that are defined (P4).
+func (s *Session) Words() []string { return nil }
+
+// Tune sets when words become fast (P5).
+func (s *Session) Tune(hot int, built int) api.Errno { return api.OK }
+
+// Fast tells which words are fast (P5).
+func (s *Session) Fast() []string { return nil }
