@@ -5,15 +5,17 @@ import (
 	"anvil/api"
 	"anvil/machine"
 	"anvil/token"
+	"anvil/words"
 )
 
 // Session runs lines.
 type Session struct {
 	state machine.State
+	book  *words.Book
 }
 
 // New makes a session (P3).
-func New() *Session { return &Session{} }
+func New() *Session { return &Session{book: words.NewBook()} }
 
 // Line runs a line (P3).
 func (s *Session) Line(text string) (string, api.Errno) {
@@ -21,7 +23,7 @@ func (s *Session) Line(text string) (string, api.Errno) {
 		return "", api.ErrText
 	}
 	run := s.state.Start()
-	why := runTokens(run, token.Split(text))
+	why := s.book.Run(run, token.Split(text))
 	if why != api.OK {
 		s.state.Empty()
 	}
@@ -29,13 +31,13 @@ func (s *Session) Line(text string) (string, api.Errno) {
 }
 
 // Stack tells the numbers on the stack (P4).
-func (s *Session) Stack() []int { return nil }
+func (s *Session) Stack() []int { return s.state.Stack() }
 
 // Cell tells what is in a cell (P4).
-func (s *Session) Cell(n int) (int, api.Errno) { return 0, api.OK }
+func (s *Session) Cell(n int) (int, api.Errno) { return s.state.Cell(n) }
 
 // Words tells the names of all words that are defined (P4).
-func (s *Session) Words() []string { return nil }
+func (s *Session) Words() []string { return s.book.Names() }
 
 // Tune sets when words become fast (P5).
 func (s *Session) Tune(hot int, built int) api.Errno { return api.OK }

@@ -9,12 +9,21 @@ import (
 	"anvil/api"
 )
 
-// model says what the document says of lines without definitions, in another
-// way: by great numbers, brought back to 64 bits.
+// model says what the document says, in another way: by great numbers, brought
+// back to 64 bits, and by going to and fro in the tokens of a body.
 type model struct {
-	stack []*big.Int
-	cells [api.Cells]*big.Int
-	out   string
+	stack        []*big.Int
+	cells        [api.Cells]*big.Int
+	words        map[string]*modelWord
+	out          string
+	steps, depth int
+}
+
+// modelWord is a body, up to its semicolon; partner tells of the token at a
+// place which other one is gone to from there.
+type modelWord struct {
+	tokens  []string
+	partner map[int]int
 }
 
 var modelTakes = map[string]int{
@@ -24,42 +33,96 @@ var modelTakes = map[string]int{
 
 const modelBound = " ; { } if else then begin until while repeat do loop i recurse exit "
 
+func newModel() *model {
+	return &model{words: map[string]*modelWord{}}
+}
+
 func (m *model) line(text string) (string, api.Errno) {
 	if len(text) > api.MaxLine || strings.ContainsFunc(text, func(r rune) bool { return r < ' ' || r > '~' }) {
 		return "", api.ErrText
 	}
-	m.out = ""
+	m.out, m.steps, m.depth = "", 0, 0
+	var tokens []string
 	for _, token := range strings.Split(text, " ") {
-		if token == "" {
-			continue
-		}
-		if why := m.token(token); why != api.OK {
-			m.stack = nil
-			return m.out, why
+		if token != "" {
+			tokens = append(tokens, token)
 		}
 	}
-	return m.out, api.OK
+	why := m.tokens(tokens)
+	if why != api.OK {
+		m.stack = nil
+	}
+	return m.out, why
 }
 
-func (m *model) token(token string) api.Errno {
-	digits := strings.TrimPrefix(token, "-")
-	if digits != "" && len(digits) < 19 && strings.Trim(digits, "0123456789") == "" {
-		number, _ := new(big.Int).SetString(token, 10)
-		return m.put(number)
+func (m *model) tokens(tokens []string) api.Errno {
+	for at := 0; at < len(tokens); at++ {
+		if tokens[at] == ":" {
+			name, word, end, why := m.read(tokens, at+1)
+			if why == api.OK {
+				why = m.step()
+			}
+			if why != api.OK {
+				return why
+			}
+			m.words[name], at = word, end
+			continue
+		}
+		if why := m.token(tokens[at]); why != api.OK {
+			return why
+		}
 	}
+	return api.OK
+}
+
+func (m *model) step() api.Errno {
+	if m.steps == api.MaxFuel {
+		return api.ErrFuel
+	}
+	m.steps++
+	return api.OK
+}
+
+func modelNumber(token string) bool {
+	digits := strings.TrimPrefix(token, "-")
+	return digits != "" && len(digits) < 19 && strings.Trim(digits, "0123456789") == ""
+}
+
+// token runs what is the same in a line and in a body.
+func (m *model) token(token string) api.Errno {
 	count, plain := modelTakes[token]
+	word := m.words[token]
 	switch {
 	case strings.Contains(modelBound, " "+token+" "):
 		return api.ErrForm
-	case !plain:
+	case !plain && word == nil && !modelNumber(token):
 		return api.ErrWord
-	case len(m.stack) < count:
-		return api.ErrUnder
 	}
+	if why := m.step(); why != api.OK {
+		return why
+	}
+	switch {
+	case word != nil:
+		return m.deeper(func() api.Errno { return m.run(word) })
+	case !plain:
+		number, _ := new(big.Int).SetString(token, 10)
+		return m.put(number)
+	}
+	taken, why := m.take(count)
+	if why != api.OK {
+		return why
+	}
+	return m.plain(token, taken)
+}
+
+func (m *model) take(count int) ([]*big.Int, api.Errno) {
 	rest := len(m.stack) - count
+	if rest < 0 {
+		return nil, api.ErrUnder
+	}
 	taken := append([]*big.Int{}, m.stack[rest:]...)
 	m.stack = m.stack[:rest]
-	return m.plain(token, taken)
+	return taken, api.OK
 }
 
 func (m *model) plain(token string, taken []*big.Int) api.Errno {
@@ -180,7 +243,7 @@ func TestRandomLinesAnswerAsTheModel(t *testing.T) {
 	random := rand.New(rand.NewSource(1))
 	told := map[api.Errno]int{}
 	for range 3000 {
-		session, other := New(), &model{}
+		session, other := New(), newModel()
 		for range 4 {
 			text := randomLine(random)
 			out, why := other.line(text)
@@ -204,7 +267,7 @@ func TestPairsOfNumbersAnswerAsTheModel(t *testing.T) {
 		for _, b := range numbers {
 			for word := range modelTakes {
 				text := a + " " + b + " " + word + " dup . emit"
-				out, why := (&model{}).line(text)
+				out, why := newModel().line(text)
 				eachSays(t, answer{text, out, why})
 			}
 		}

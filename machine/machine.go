@@ -16,6 +16,7 @@ type Run struct {
 	state *State
 	out   []byte
 	steps int
+	depth int
 }
 
 // Action is what one step does.
@@ -31,6 +32,23 @@ func (s *State) Empty() {
 	s.stack = nil
 }
 
+// Stack tells the numbers on the stack, the last one on top.
+func (s *State) Stack() []int {
+	numbers := make([]int, len(s.stack))
+	for at, number := range s.stack {
+		numbers[at] = int(number)
+	}
+	return numbers
+}
+
+// Cell tells what is in a cell.
+func (s *State) Cell(n int) (int, api.Errno) {
+	if !isCell(int64(n)) {
+		return 0, api.ErrCell
+	}
+	return int(s.cells[n]), api.OK
+}
+
 // Printed tells what the line has printed so far.
 func (r *Run) Printed() string {
 	return string(r.out)
@@ -38,12 +56,20 @@ func (r *Run) Printed() string {
 
 // Step makes one step, if there is fuel for it.
 func (r *Run) Step(act Action) api.Errno {
-	// Fuel goes ahead of every other error that the step would be.
+	if why := r.burn(); why != api.OK {
+		return why
+	}
+	return act(r)
+}
+
+// burn counts one step. It stands ahead of what the step does, since fuel goes
+// ahead of every other error that the step would be.
+func (r *Run) burn() api.Errno {
 	if r.steps >= api.MaxFuel {
 		return api.ErrFuel
 	}
 	r.steps++
-	return act(r)
+	return api.OK
 }
 
 // Lay makes the action that lays a number on the stack.
@@ -53,7 +79,46 @@ func Lay(number int64) Action {
 	}
 }
 
-// maxTaken is the most that one plain word takes from the stack.
+// Nothing is the action of a step that does nothing by itself.
+func Nothing(*Run) api.Errno {
+	return api.OK
+}
+
+// Deeper makes the action that does another one level deeper.
+func Deeper(act Action) Action {
+	return func(r *Run) api.Errno {
+		if r.depth >= api.MaxDepth {
+			return api.ErrDeep
+		}
+		r.depth++
+		why := act(r)
+		r.depth--
+		return why
+	}
+}
+
+// Ask makes the step that takes a number, and tells whether that is not 0.
+func (r *Run) Ask() (bool, api.Errno) {
+	taken, why := r.stepTaking(1)
+	return taken[0] != 0, why
+}
+
+// Bounds makes the step that takes the bounds of a do: the number that is the
+// first one not to be reached, and the one to begin with.
+func (r *Run) Bounds() (end, begin int64, why api.Errno) {
+	taken, why := r.stepTaking(2)
+	return taken[0], taken[1], why
+}
+
+// stepTaking makes the step that takes count numbers.
+func (r *Run) stepTaking(count int) ([maxTaken]int64, api.Errno) {
+	if why := r.burn(); why != api.OK {
+		return [maxTaken]int64{}, why
+	}
+	return r.take(count)
+}
+
+// maxTaken is the most that one step takes from the stack.
 const maxTaken = 3
 
 // take takes count numbers from the stack; the last one was on top.

@@ -75,3 +75,62 @@ func TestPlainKnowsThePlainWordsAlone(t *testing.T) {
 		}
 	}
 }
+
+func TestDepth(t *testing.T) {
+	for depth := range api.MaxDepth + 3 {
+		reached := 0
+		act := Nothing
+		for range depth {
+			inner := act
+			act = Deeper(func(r *Run) api.Errno {
+				reached++
+				return inner(r)
+			})
+		}
+		want := api.OK
+		if depth > api.MaxDepth {
+			want = api.ErrDeep
+		}
+		var state State
+		run := state.Start()
+		for range 2 {
+			reached = 0
+			if why := act(run); why != want || reached != min(depth, api.MaxDepth) {
+				t.Errorf("P3: at depth %d: %d, %d times deeper", depth, why, reached)
+			}
+		}
+	}
+}
+
+func TestTakingSteps(t *testing.T) {
+	for spare := range 2 {
+		var state State
+		run := state.Start()
+		burn(t, run, api.MaxFuel-spare)
+		want := []api.Errno{api.ErrFuel, api.ErrUnder}[spare]
+		state.stack = nil
+		if so, why := run.Ask(); so || why != want {
+			t.Errorf("P3: Ask with fuel for %d steps: %v, %d", spare, so, why)
+		}
+		run = state.Start()
+		burn(t, run, api.MaxFuel-spare)
+		state.stack = []int64{1}
+		if end, begin, why := run.Bounds(); end != 0 || begin != 0 || why != want {
+			t.Errorf("P3: Bounds with fuel for %d steps: %d, %d, %d", spare, end, begin, why)
+		}
+	}
+	state := State{stack: []int64{4, 7, 3, -1, 0}}
+	run := state.Start()
+	if so, why := run.Ask(); so || why != api.OK {
+		t.Errorf("P3: Ask at 0: %v, %d", so, why)
+	}
+	if so, why := run.Ask(); !so || why != api.OK {
+		t.Errorf("P3: Ask at -1: %v, %d", so, why)
+	}
+	if end, begin, why := run.Bounds(); end != 7 || begin != 3 || why != api.OK {
+		t.Errorf("P3: Bounds: %d, %d, %d", end, begin, why)
+	}
+	if len(state.stack) != 1 {
+		t.Errorf("P3: the stack is %d", state.stack)
+	}
+}

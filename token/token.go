@@ -52,6 +52,19 @@ func Value(token string) int64 {
 	return value
 }
 
+// IsName tells whether a token may be the name of a word.
+func IsName(token string) bool {
+	if len(token) < 1 || len(token) > api.MaxName || KindOf(token) != Other {
+		return false
+	}
+	for i := range len(token) {
+		if token[i] < 'a' || token[i] > 'z' {
+			return false
+		}
+	}
+	return true
+}
+
 func isNumber(token string) bool {
 	digits := strings.TrimPrefix(token, "-")
 	if len(digits) < 1 || len(digits) > maxDigits {

@@ -102,3 +102,27 @@ func TestKinds(t *testing.T) {
 		t.Error("P3: a number is no plain word")
 	}
 }
+
+func TestNames(t *testing.T) {
+	for _, text := range Split("a z az zzzzzzzz abcdefgh x sq j dupp du ifs doo loops exi") {
+		if !IsName(text) {
+			t.Errorf("P3: %q may be a name", text)
+		}
+	}
+	for _, kind := range spellings {
+		if IsName(kind) {
+			t.Errorf("P3: %q can be no name", kind)
+		}
+	}
+	for _, text := range Split("abcdefghi zzzzzzzzzzzz A aB Ab a1 1a 1 -1 a-b -a a- a_b a. .. :: {a `a a` a~ ~ @a") {
+		if IsName(text) {
+			t.Errorf("P3: %q can be no name", text)
+		}
+	}
+	for value := range 256 {
+		want := value >= 'a' && value <= 'z'
+		if got := IsName("q" + string([]byte{byte(value)})); got != want {
+			t.Errorf("P3: with the byte %d in it, it is a name: %v", value, got)
+		}
+	}
+}
