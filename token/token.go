@@ -29,8 +29,9 @@ func Valid(text string) bool {
 
 // Split gives the tokens of a valid line.
 func Split(text string) []string {
-	// A valid line has no white space but the blank.
-	return strings.Fields(text)
+	// A valid line has no white space but the blank. Definitions keep some of
+	// its tokens, but the text that was handed in is not to be kept.
+	return strings.Fields(strings.Clone(text))
 }
 
 // KindOf tells of what kind a token is.
