@@ -40,7 +40,7 @@ func (s *Session) Cell(n int) (int, api.Errno) { return s.state.Cell(n) }
 func (s *Session) Words() []string { return s.book.Names() }
 
 // Tune sets when words become fast (P5).
-func (s *Session) Tune(hot int, built int) api.Errno { return api.OK }
+func (s *Session) Tune(hot int, built int) api.Errno { return s.book.Tune(hot, built) }
 
 // Fast tells which words are fast (P5).
-func (s *Session) Fast() []string { return nil }
+func (s *Session) Fast() []string { return s.book.Fast() }

@@ -27,12 +27,25 @@ func says(t *testing.T, session *Session, answers ...answer) {
 	}
 }
 
-// eachSays asks a new session for each answer.
+// eachSays asks new sessions for each answer, however they are tuned (P6).
 func eachSays(t *testing.T, answers ...answer) {
 	t.Helper()
 	for _, a := range answers {
-		says(t, New(), a)
+		for _, session := range tunedSessions() {
+			says(t, session, a)
+		}
 	}
+}
+
+// tunedSessions are new ones; in most of them a word is fast at once.
+func tunedSessions() []*Session {
+	sessions := []*Session{New()}
+	for _, tuning := range [][2]int{{1, 0}, {1, 1}, {1, 2}, {1, 3}, {2, 1}, {2, 3}} {
+		session := New()
+		session.Tune(tuning[0], tuning[1])
+		sessions = append(sessions, session)
+	}
+	return sessions
 }
 
 // holds tells, by lines alone, that a stack is this one, the last on top; it

@@ -149,6 +149,9 @@ func agrees(t *testing.T, session *Session, other *model, text string) api.Errno
 	if got := session.Words(); !slices.Equal(got, names) {
 		t.Errorf("P4: behind Line(%q) the words are %q, want %q", text, got, names)
 	}
+	if got, want := session.Fast(), other.fastNames(); !slices.Equal(got, want) {
+		t.Errorf("P5: behind Line(%q) the fast words are %q, want %q", text, got, want)
+	}
 	return why
 }
 

@@ -17,11 +17,13 @@ type model struct {
 	words        map[string]*modelWord
 	out          string
 	steps, depth int
+	modelHeat
 }
 
 // modelWord is a body, up to its semicolon; partner tells of the token at a
 // place which other one is gone to from there.
 type modelWord struct {
+	name    string
 	tokens  []string
 	partner map[int]int
 }
@@ -34,7 +36,7 @@ var modelTakes = map[string]int{
 const modelBound = " ; { } if else then begin until while repeat do loop i recurse exit "
 
 func newModel() *model {
-	return &model{words: map[string]*modelWord{}}
+	return &model{words: map[string]*modelWord{}, modelHeat: newModelHeat(5, 1)}
 }
 
 func (m *model) line(text string) (string, api.Errno) {
@@ -66,6 +68,7 @@ func (m *model) tokens(tokens []string) api.Errno {
 				return why
 			}
 			m.words[name], at = word, end
+			m.defined(name)
 			continue
 		}
 		if why := m.token(tokens[at]); why != api.OK {
@@ -103,7 +106,7 @@ func (m *model) token(token string) api.Errno {
 	}
 	switch {
 	case word != nil:
-		return m.deeper(func() api.Errno { return m.run(word) })
+		return m.deeper(func() api.Errno { return m.enter(word) })
 	case !plain:
 		number, _ := new(big.Int).SetString(token, 10)
 		return m.put(number)

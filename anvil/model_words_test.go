@@ -25,7 +25,7 @@ func (m *model) read(tokens []string, at int) (string, *modelWord, int, api.Errn
 	first := at + 1
 	for at = first; at < len(tokens); at++ {
 		if tokens[at] == ";" && len(shape.open) == 0 && !shape.braces {
-			return name, &modelWord{tokens[first:at], shape.partner}, at, api.OK
+			return name, &modelWord{name, tokens[first:at], shape.partner}, at, api.OK
 		}
 		if why := shape.add(at-first, tokens[at]); why != api.OK {
 			return "", nil, 0, why
@@ -151,7 +151,7 @@ func (m *model) run(word *modelWord) api.Errno {
 			return m.step()
 		case "recurse":
 			if why = m.step(); why == api.OK {
-				why = m.deeper(func() api.Errno { return m.run(word) })
+				why = m.deeper(func() api.Errno { return m.enter(word) })
 			}
 		case "{":
 			if why = m.step(); why == api.OK {

@@ -22,11 +22,12 @@ func spend(steps int) string {
 func makes(t *testing.T, definitions, text string, steps int) {
 	t.Helper()
 	for spare, want := range map[int]api.Errno{0: api.OK, 1: api.OK, -1: api.ErrFuel} {
-		session := New()
-		says(t, session, answer{spender + definitions, "", api.OK})
-		line := spend(api.MaxFuel-steps-spare) + text
-		if _, why := session.Line(line); why != want {
-			t.Errorf("P3: Line(%q) behind %q is %d, want %d", line, definitions, why, want)
+		for _, session := range tunedSessions() {
+			says(t, session, answer{spender + definitions, "", api.OK})
+			line := spend(api.MaxFuel-steps-spare) + text
+			if _, why := session.Line(line); why != want {
+				t.Errorf("P3: Line(%q) behind %q is %d, want %d", line, definitions, why, want)
+			}
 		}
 	}
 }
@@ -86,6 +87,19 @@ func TestFuelGoesAheadOfWhatAStepWouldBe(t *testing.T) {
 		answer{spend(api.MaxFuel-20) + "b", "", api.ErrFuel},
 		answer{spend(api.MaxFuel-21) + "b", "", api.ErrDeep},
 	)
+}
+
+func TestFuelGoesAheadOfDepth(t *testing.T) {
+	// So many steps are made up to the a that is too deep.
+	ahead := 2 + 19*5 + 2
+	for _, session := range tunedSessions() {
+		says(t, session,
+			answer{spender + ": a ; : b dup if 1 - recurse else a then ;", "", api.OK},
+			answer{spend(api.MaxFuel-ahead) + "19 b", "", api.ErrFuel},
+			answer{spend(api.MaxFuel-ahead-1) + "19 b", "", api.ErrDeep},
+			answer{spend(api.MaxFuel-ahead) + "19 b", "", api.ErrFuel},
+		)
+	}
 }
 
 func TestWrongTokensNeedNoFuel(t *testing.T) {

@@ -87,14 +87,27 @@ func Nothing(*Run) api.Errno {
 // Deeper makes the action that does another one level deeper.
 func Deeper(act Action) Action {
 	return func(r *Run) api.Errno {
-		if r.depth >= api.MaxDepth {
-			return api.ErrDeep
+		if why := r.Down(); why != api.OK {
+			return why
 		}
-		r.depth++
 		why := act(r)
-		r.depth--
+		r.Up()
 		return why
 	}
+}
+
+// Down goes one level deeper, if there is one.
+func (r *Run) Down() api.Errno {
+	if r.depth >= api.MaxDepth {
+		return api.ErrDeep
+	}
+	r.depth++
+	return api.OK
+}
+
+// Up goes back from the level that Down went to.
+func (r *Run) Up() {
+	r.depth--
 }
 
 // Ask makes the step that takes a number, and tells whether that is not 0.

@@ -14,11 +14,13 @@ import (
 // Book holds the words that are defined, by their names.
 type Book struct {
 	words map[string]*word
+	hot   int // the count that makes a word fast
+	built int // how many times over words are built into it
 }
 
 // NewBook makes a book without words.
 func NewBook() *Book {
-	return &Book{words: map[string]*word{}}
+	return &Book{words: map[string]*word{}, hot: firstHot, built: firstBuilt}
 }
 
 // Names tells the names of all words, in the order of their bytes.
@@ -74,8 +76,11 @@ func (b *Book) define(run *machine.Run, tokens []string) ([]string, api.Errno) {
 		return nil, why
 	}
 	return rest, run.Step(func(*machine.Run) api.Errno {
+		if old := b.words[name]; old != nil {
+			old.retire()
+		}
 		// A new word, not the old one changed: who runs the old one goes on with it.
-		b.words[name] = b.forge(items)
+		b.words[name] = b.forge(name, items)
 		return api.OK
 	})
 }
@@ -83,6 +88,21 @@ func (b *Book) define(run *machine.Run, tokens []string) ([]string, api.Errno) {
 // call makes the action that runs a word as it is defined by then.
 func (b *Book) call(name string) machine.Action {
 	return machine.Deeper(func(run *machine.Run) api.Errno {
-		return b.words[name].run(run)
+		return b.enter(run, b.words[name])
 	})
+}
+
+// recurse makes the action that runs this word, whatever its name is defined
+// as by then.
+func (b *Book) recurse(own *word) machine.Action {
+	return machine.Deeper(func(run *machine.Run) api.Errno {
+		return b.enter(run, own)
+	})
+}
+
+// enter counts the entry ahead of the run, since the word may be fast from
+// this very run on.
+func (b *Book) enter(run *machine.Run, w *word) api.Errno {
+	b.noteEntry(w)
+	return w.run(run)
 }

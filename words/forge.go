@@ -6,16 +6,22 @@ import (
 	"anvil/machine"
 )
 
-// smith makes the acts of one word.
+// smith makes acts of one body.
 type smith struct {
 	book *Book
-	own  *word
+	own  *word // whose body it is
+	left int   // how many times over the words that it calls are built in
+
+	// Of the whole word that becomes fast; a smith of slow acts has none.
+	made  map[site]act
+	parts map[string]*word
 }
 
-// forge makes a word of the items of its body.
-func (b *Book) forge(items []body.Item) *word {
-	own := &word{}
-	own.acts = smith{b, own}.acts(items)
+// forge makes a word of the items of its body. Nothing is built in yet.
+func (b *Book) forge(name string, items []body.Item) *word {
+	own := &word{name: name, items: items, wholes: map[string]*word{}}
+	own.slow = smith{book: b, own: own}.acts(items)
+	own.acts = own.slow
 	return own
 }
 
@@ -34,7 +40,7 @@ func (s smith) act(item body.Item) act {
 	case body.Plain:
 		return step(machine.Plain(item.Plain))
 	case body.Call:
-		return step(s.book.call(item.Name))
+		return s.call(item.Name)
 	case body.If:
 		return choose(s.acts(item.First), s.acts(item.Second))
 	case body.Until:
@@ -46,9 +52,9 @@ func (s smith) act(item body.Item) act {
 	case body.Index:
 		return layIndex
 	case body.Recurse:
-		return step(machine.Deeper(s.own.run))
+		return step(s.book.recurse(s.own))
 	case body.Braces:
-		return step(s.braces(item.Tokens))
+		return step(s.book.braces(item.Tokens))
 	}
 	return exit
 }
@@ -136,8 +142,8 @@ func exit(f *frame) signal {
 }
 
 // braces makes the action that runs tokens as those of a line are.
-func (s smith) braces(tokens []string) machine.Action {
+func (b *Book) braces(tokens []string) machine.Action {
 	return machine.Deeper(func(run *machine.Run) api.Errno {
-		return s.book.Run(run, tokens)
+		return b.Run(run, tokens)
 	})
 }

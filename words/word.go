@@ -2,6 +2,7 @@ package words
 
 import (
 	"anvil/api"
+	"anvil/body"
 	"anvil/machine"
 )
 
@@ -18,10 +19,21 @@ type act func(f *frame) signal
 
 // word is one definition of a word, made into acts.
 type word struct {
-	acts []act
+	name  string
+	items []body.Item
+	slow  []act // the acts without anything built in
+	acts  []act // the acts that are run: the slow ones, or those made when it became fast
+	fast  bool
+	count int
+	gone  bool // if its name has been defined again
+
+	// Both by name. A word that is gone is in neither map of any word.
+	parts  map[string]*word // what is built into it, while it is fast
+	wholes map[string]*word // the fast words into which it is built
 }
 
-// frame is one run of a word.
+// frame is one run of a word, and of the words built into it: each i stands in
+// a do of its own body, so that the innermost number is always the right one.
 type frame struct {
 	run     *machine.Run
 	indexes []int64   // the numbers of the dos that are not over, the innermost last
